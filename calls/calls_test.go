@@ -1,0 +1,194 @@
+package calls
+
+import (
+	"math"
+	"reflect"
+	"strings"
+	"testing"
+
+	"carrier/batch"
+	"carrier/block"
+	"carrier/code"
+	"carrier/crc"
+	"carrier/cursor"
+	"carrier/desk"
+	"carrier/entry"
+	"carrier/event"
+	"carrier/heap"
+	"carrier/judge"
+	"carrier/queue"
+	"carrier/rel"
+	"carrier/retry"
+	"carrier/snap"
+	"carrier/source"
+	"carrier/spool"
+	"carrier/system"
+	"carrier/target"
+	"carrier/tick"
+	"carrier/txn"
+	"carrier/wal"
+)
+
+// functions are the calls that are no methods.
+func functions() map[string]any {
+	return map[string]any{
+		"crc.Of": crc.Of, "crc.More": crc.More, "crc.Calls": crc.Calls,
+		"code.NewReader": code.NewReader,
+		"block.New":      block.New,
+		"wal.Frame":      wal.Frame, "wal.Open": wal.Open,
+		"snap.Right": snap.Right, "snap.Sees": snap.Sees, "snap.Least": snap.Least, "snap.Covers": snap.Covers, "snap.Same": snap.Same,
+		"txn.New":  txn.New,
+		"heap.New": heap.New,
+		"rel.New":  rel.New, "rel.Ops": rel.Ops,
+		"event.Right": event.Right, "event.Encode": event.Encode, "event.Decode": event.Decode, "event.Due": event.Due,
+		"spool.New": spool.New,
+		"tick.New":  tick.New,
+		"batch.Of":  batch.Of, "batch.Needs": batch.Needs, "batch.Free": batch.Free,
+		"cursor.New":   cursor.New,
+		"retry.New":    retry.New,
+		"queue.New":    queue.New,
+		"entry.Encode": entry.Encode, "entry.Decode": entry.Decode, "entry.Same": entry.Same,
+		"source.Open": source.Open,
+		"target.Open": target.Open, "target.Replay": target.Replay,
+		"system.New": system.New, "system.Same": system.Same,
+		"judge.Once": judge.Once, "judge.Feed": judge.Feed, "judge.Follow": judge.Follow, "judge.Round": judge.Round,
+		"judge.Drain": judge.Drain, "judge.Sound": judge.Sound, "judge.Copied": judge.Copied,
+		"desk.New": desk.New, "desk.Run": desk.Run,
+	}
+}
+
+// objects are makers of what has methods: the nil ones of all layers, and others.
+func objects() map[string]func() any {
+	return map[string]func() any{
+		"nil code.Writer":    func() any { return (*code.Writer)(nil) },
+		"nil code.Reader":    func() any { return (*code.Reader)(nil) },
+		"nil block.Device":   func() any { return (*block.Device)(nil) },
+		"nil wal.Log":        func() any { return (*wal.Log)(nil) },
+		"nil txn.Manager":    func() any { return (*txn.Manager)(nil) },
+		"nil heap.Heap":      func() any { return (*heap.Heap)(nil) },
+		"nil rel.Rel":        func() any { return (*rel.Rel)(nil) },
+		"nil spool.Spools":   func() any { return (*spool.Spools)(nil) },
+		"nil tick.Ticks":     func() any { return (*tick.Ticks)(nil) },
+		"nil cursor.Cursors": func() any { return (*cursor.Cursors)(nil) },
+		"nil retry.Retries":  func() any { return (*retry.Retries)(nil) },
+		"nil queue.Queue":    func() any { return (*queue.Queue)(nil) },
+		"nil source.Source":  func() any { return (*source.Source)(nil) },
+		"nil target.Target":  func() any { return (*target.Target)(nil) },
+		"nil system.System":  func() any { return (*system.System)(nil) },
+		"nil desk.Desk":      func() any { return (*desk.Desk)(nil) },
+
+		"code.Writer":                        func() any { return &code.Writer{} },
+		"code.Reader, no bytes":              func() any { return code.NewReader(nil) },
+		"code.Reader, a text":                func() any { return code.NewReader([]byte("\x02ab")) },
+		"code.Reader, a text that is cut":    func() any { return code.NewReader([]byte("\x05ab")) },
+		"code.Reader, a number that is cut":  func() any { return code.NewReader([]byte("\x80\x80")) },
+		"code.Reader, the greatest number":   func() any { return code.NewReader([]byte("\xff\xff\xff\xff\xff\xff\xff\xff\xff\x01ab")) },
+		"code.Reader, a number that is more": func() any { return code.NewReader([]byte(strings.Repeat("\xff", 30))) },
+	}
+}
+
+// kinds is how many odd values there are of a type, at most.
+const kinds = 6
+
+// odd is one of the values of a type that are on some edge.
+func odd(t reflect.Type, kind int) reflect.Value {
+	v := reflect.New(t).Elem()
+	switch t.Kind() {
+	case reflect.Bool:
+		v.SetBool(kind%2 == 1)
+	case reflect.Int, reflect.Int64:
+		v.SetInt([kinds]int64{0, 1, -1, 41, math.MaxInt64, math.MinInt64}[kind])
+	case reflect.Uint8, reflect.Uint32, reflect.Uint64:
+		v.SetUint([kinds]uint64{0, 1, 2, 41, math.MaxInt64, math.MaxUint64}[kind] & (1<<t.Bits() - 1))
+	case reflect.String:
+		v.SetString([kinds]string{"", "a", "\xff\x00", strings.Repeat("x", 40), strings.Repeat("y", 41), "a b\nc"}[kind])
+	case reflect.Slice:
+		for i := range [kinds]int{0, 1, 2, 3, 5, 41}[kind] {
+			v.Set(reflect.Append(v, odd(t.Elem(), (kind+i)%kinds)))
+		}
+	case reflect.Struct:
+		for i := range t.NumField() {
+			v.Field(i).Set(odd(t.Field(i).Type, (kind+i)%kinds))
+		}
+	}
+	return v
+}
+
+// lists are all lists of odd values of the types from the i-th on.
+func lists(t reflect.Type, i int) [][]reflect.Value {
+	if i == t.NumIn() {
+		return [][]reflect.Value{nil}
+	}
+	var all [][]reflect.Value
+	behind := lists(t, i+1)
+	for kind := range kinds {
+		if t.In(i).Kind() == reflect.Pointer && kind > 0 { // there is but nil
+			break
+		}
+		for _, l := range behind {
+			all = append(all, append([]reflect.Value{odd(t.In(i), kind)}, l...))
+		}
+	}
+	return all
+}
+
+// call tells a fault if the call panics.
+func call(t *testing.T, name string, f reflect.Value, arguments []reflect.Value) {
+	t.Helper()
+	defer func() {
+		if fault := recover(); fault != nil {
+			t.Errorf("%s%v: %v", name, arguments, fault)
+		}
+	}()
+	f.Call(arguments)
+}
+
+func TestNoFunctionPanics(t *testing.T) {
+	for name, f := range functions() {
+		v := reflect.ValueOf(f)
+		for _, arguments := range lists(v.Type(), 0) {
+			call(t, name, v, arguments)
+		}
+	}
+}
+
+func TestNoMethodPanics(t *testing.T) {
+	for name, object := range objects() {
+		of := reflect.TypeOf(object())
+		if of.NumMethod() == 0 {
+			t.Error(name, "has no method")
+		}
+		for i := range of.NumMethod() {
+			method := reflect.ValueOf(object()).Method(i)
+			for _, arguments := range lists(method.Type(), 0) {
+				call(t, name+" "+of.Method(i).Name, reflect.ValueOf(object()).Method(i), arguments)
+			}
+		}
+	}
+}
+
+// Two calls, one behind the other, of one object: what the first one leaves must not make the second one panic.
+func TestNoTwoMethodsPanic(t *testing.T) {
+	for name, object := range objects() {
+		of := reflect.TypeOf(object())
+		for i := range of.NumMethod() {
+			for j := range of.NumMethod() {
+				v := reflect.ValueOf(object())
+				first, second := v.Method(i), v.Method(j)
+				for kind := range kinds {
+					call(t, name+" "+of.Method(i).Name, first, sameKind(first.Type(), kind))
+					call(t, name+" "+of.Method(j).Name, second, sameKind(second.Type(), kind))
+				}
+			}
+		}
+	}
+}
+
+// sameKind is a list of odd values, all of that kind.
+func sameKind(t reflect.Type, kind int) []reflect.Value {
+	var l []reflect.Value
+	for i := range t.NumIn() {
+		l = append(l, odd(t.In(i), kind))
+	}
+	return l
+}
