@@ -35,7 +35,7 @@ func (w *Writer) Num(n uint64) *Writer {
 // Int lays a number that may be below 0.
 func (w *Writer) Int(n int64) *Writer {
 	if n < 0 {
-		return w.Num(^(uint64(n) << 1)) // -2n - 1, which no int64 may hold
+		return w.Num(^(uint64(n) << 1)) // -2n - 1, for which an int64 may be too small
 	}
 	return w.Num(uint64(n) << 1)
 }
