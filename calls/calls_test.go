@@ -6,6 +6,7 @@ import (
 	"strings"
 	"testing"
 
+	"carrier/api"
 	"carrier/batch"
 	"carrier/block"
 	"carrier/code"
@@ -84,7 +85,30 @@ func objects() map[string]func() any {
 		"code.Reader, a number that is cut":  func() any { return code.NewReader([]byte("\x80\x80")) },
 		"code.Reader, the greatest number":   func() any { return code.NewReader([]byte("\xff\xff\xff\xff\xff\xff\xff\xff\xff\x01ab")) },
 		"code.Reader, a number that is more": func() any { return code.NewReader([]byte(strings.Repeat("\xff", 30))) },
+
+		"block.Device, no block":          func() any { return block.New(0) },
+		"block.Device, below 0":           func() any { return block.New(math.MinInt) },
+		"block.Device":                    func() any { return block.New(3) },
+		"block.Device, far too many":      func() any { return block.New(math.MaxInt) },
+		"block.Device, one write waits":   func() any { return written(1) },
+		"block.Device, many writes wait":  func() any { return written(50) },
+		"block.Device, all is safe again": func() any { return synced(50) },
 	}
+}
+
+// written is a device with writes that wait, of all lengths, in all its blocks.
+func written(writes int) *block.Device {
+	d := block.New(2)
+	for i := range writes {
+		d.Write(i%d.Size(), make([]byte, i%(api.BlockSize+1)))
+	}
+	return d
+}
+
+func synced(writes int) *block.Device {
+	d := written(writes)
+	d.Sync()
+	return d
 }
 
 // kinds is how many odd values there are of a type, at most.
