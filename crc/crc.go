@@ -17,17 +17,18 @@ var (
 	calls  atomic.Uint64
 )
 
-// Of is the sum of p.
+// Of is the sum of p. It goes by the rule, bit by bit, not by the table: so its
+// answer hangs on p alone, on nothing that is kept.
 func Of(p []byte) uint32 {
 	calls.Add(1)
-	return goOn(0, p)
+	return byRule(p)
 }
 
 // More is the sum of some bytes and, behind them, p, where c is the sum of
-// those.
+// those. It goes by the table.
 func More(c uint32, p []byte) uint32 {
 	calls.Add(1)
-	return goOn(c, p)
+	return byTable(c, p)
 }
 
 // Calls is how many times Of and More were called so far.
@@ -35,8 +36,19 @@ func Calls() uint64 {
 	return calls.Load()
 }
 
-// goOn doesn't count, so that each call of Of or More is counted once.
-func goOn(c uint32, p []byte) uint32 {
+func byRule(p []byte) uint32 {
+	register := ^uint32(0)
+	for _, b := range p {
+		register ^= uint32(b)
+		for range 8 {
+			register = shift(register)
+		}
+	}
+	return ^register
+}
+
+// byTable lays the table ahead of the first sum that needs it, whoever comes first.
+func byTable(c uint32, p []byte) uint32 {
 	once.Do(layHalves)
 	register := ^c
 	for _, b := range p {

@@ -27,12 +27,20 @@ func TestMain(m *testing.M) {
 	for i := range firstSums {
 		callers.Go(func() {
 			<-start
-			firstSums[i] = crc.Of([]byte(letters))
+			firstSums[i] = firstSum(i)
 		})
 	}
 	close(start)
 	callers.Wait()
 	os.Exit(m.Run())
+}
+
+// firstSum is made by each of the two calls in turn.
+func firstSum(i int) uint32 {
+	if i%2 == 0 {
+		return crc.More(0, []byte(letters))
+	}
+	return crc.Of([]byte(letters))
 }
 
 // bitByBit goes on with a sum just as the promise words it.
@@ -84,7 +92,7 @@ func TestFirstCallersAtOnce(t *testing.T) {
 	}
 }
 
-func TestOfKnownSums(t *testing.T) {
+func TestKnownSums(t *testing.T) {
 	for _, c := range []struct {
 		p    []byte
 		want uint32
@@ -101,30 +109,33 @@ func TestOfKnownSums(t *testing.T) {
 		if got := crc.Of(c.p); got != c.want {
 			t.Errorf("Of(%x) is %x, not %x", c.p, got, c.want)
 		}
+		if got := crc.More(0, c.p); got != c.want {
+			t.Errorf("More(0, %x) is %x, not %x", c.p, got, c.want)
+		}
 	}
 }
 
-func TestOfEachByte(t *testing.T) {
+func TestEachByte(t *testing.T) {
 	for a := range 256 {
-		if p := []byte{byte(a)}; crc.Of(p) != bitByBit(0, p) {
+		if p := []byte{byte(a)}; crc.Of(p) != bitByBit(0, p) || crc.More(0, p) != bitByBit(0, p) {
 			t.Fatalf("%x", p)
 		}
 		for b := range 256 {
-			if p := []byte{byte(a), byte(b)}; crc.Of(p) != bitByBit(0, p) {
+			if p := []byte{byte(a), byte(b)}; crc.Of(p) != bitByBit(0, p) || crc.More(0, p) != bitByBit(0, p) {
 				t.Fatalf("%x", p)
 			}
 		}
 	}
 }
 
-func TestOfEachLength(t *testing.T) {
+func TestEachLength(t *testing.T) {
 	all := mixed(600)
 	for n := range all {
-		if p := all[:n]; crc.Of(p) != bitByBit(0, p) {
+		if p := all[:n]; crc.Of(p) != bitByBit(0, p) || crc.More(0, p) != bitByBit(0, p) {
 			t.Fatal(n)
 		}
 	}
-	if long := mixed(1 << 20); crc.Of(long) != bitByBit(0, long) {
+	if long := mixed(1 << 20); crc.Of(long) != bitByBit(0, long) || crc.More(0, long) != bitByBit(0, long) {
 		t.Error("long")
 	}
 }
