@@ -93,7 +93,62 @@ func objects() map[string]func() any {
 		"block.Device, one write waits":   func() any { return written(1) },
 		"block.Device, many writes wait":  func() any { return written(50) },
 		"block.Device, all is safe again": func() any { return synced(50) },
+
+		"wal.Log, no block":           func() any { return opened(block.New(0)) },
+		"wal.Log, one block":          func() any { return opened(block.New(1)) },
+		"wal.Log, the most blocks":    func() any { return opened(block.New(api.MaxBlocks)) },
+		"wal.Log, other bytes":        func() any { return opened(written(50)) },
+		"wal.Log, records":            func() any { return opened(logged(20)) },
+		"wal.Log, no room":            func() any { return opened(logged(api.MaxBlocks)) },
+		"wal.Log, its device crashed": func() any { return crashed() },
 	}
+}
+
+// opened is the log on a device.
+func opened(d *block.Device) *wal.Log {
+	l, _, _ := wal.Open(d)
+	return l
+}
+
+// logged is a device with a log of records of just a block each: so many as there is room for.
+func logged(records int) *block.Device {
+	d := block.New(api.MaxBlocks / 8)
+	l := opened(d)
+	for range records {
+		l.Append([]byte(strings.Repeat("r", api.BlockSize-6)))
+	}
+	return d
+}
+
+// crashed is a log whose device crashed since.
+func crashed() *wal.Log {
+	d := logged(20)
+	l := opened(d)
+	d.Crash(make([]bool, 10), 1)
+	return l
+}
+
+// device is one of the kinds of devices: none, of no block, of one, of many, with bytes of all sorts, with records.
+func device(kind int) *block.Device {
+	switch kind {
+	case 1:
+		return block.New(0)
+	case 2:
+		d := block.New(1)
+		d.Write(0, []byte("\x00\x02ab"))
+		return d
+	case 3:
+		d := synced(50)
+		for i := range d.Size() {
+			d.Write(i, []byte(strings.Repeat("\xff", api.BlockSize)))
+		}
+		return d
+	case 4:
+		return block.New(math.MaxInt)
+	case 5:
+		return logged(20)
+	}
+	return nil
 }
 
 // written is a device with writes that wait, of all lengths, in all its blocks.
@@ -116,6 +171,9 @@ const kinds = 6
 
 // odd is one of the values of a type that are on some edge.
 func odd(t reflect.Type, kind int) reflect.Value {
+	if t == reflect.TypeFor[*block.Device]() {
+		return reflect.ValueOf(device(kind))
+	}
 	v := reflect.New(t).Elem()
 	switch t.Kind() {
 	case reflect.Bool:
@@ -146,7 +204,7 @@ func lists(t reflect.Type, i int) [][]reflect.Value {
 	var all [][]reflect.Value
 	behind := lists(t, i+1)
 	for kind := range kinds {
-		if t.In(i).Kind() == reflect.Pointer && kind > 0 { // there is but nil
+		if kind > 0 && t.In(i).Kind() == reflect.Pointer && t.In(i) != reflect.TypeFor[*block.Device]() { // there is but nil
 			break
 		}
 		for _, l := range behind {
