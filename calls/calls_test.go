@@ -30,10 +30,10 @@ import (
 	"carrier/wal"
 )
 
-// functions are the calls that are no methods.
+// functions are the calls that are no methods: those that the chapters list, and crc.Sum beside them.
 func functions() map[string]any {
 	return map[string]any{
-		"crc.Of": crc.Of, "crc.More": crc.More, "crc.Calls": crc.Calls,
+		"crc.Of": crc.Of, "crc.More": crc.More, "crc.Calls": crc.Calls, "crc.Sum": crc.Sum,
 		"code.NewReader": code.NewReader,
 		"block.New":      block.New,
 		"wal.Frame":      wal.Frame, "wal.Open": wal.Open,

@@ -17,11 +17,23 @@ var (
 	calls  atomic.Uint64
 )
 
-// Of is the sum of p. It goes by the rule, bit by bit, not by the table: so its
-// answer hangs on p alone, on nothing that is kept.
+// Of is the sum of p.
 func Of(p []byte) uint32 {
 	calls.Add(1)
-	return byRule(p)
+	return Sum(p)
+}
+
+// Sum is what Of answers of p, but isn't counted: so it hangs on p alone, and
+// touches nothing that is kept. It goes by the rule, bit by bit, not by the table.
+func Sum(p []byte) uint32 {
+	register := ^uint32(0)
+	for _, b := range p {
+		register ^= uint32(b)
+		for range 8 {
+			register = shift(register)
+		}
+	}
+	return ^register
 }
 
 // More is the sum of some bytes and, behind them, p, where c is the sum of
@@ -34,17 +46,6 @@ func More(c uint32, p []byte) uint32 {
 // Calls is how many times Of and More were called so far.
 func Calls() uint64 {
 	return calls.Load()
-}
-
-func byRule(p []byte) uint32 {
-	register := ^uint32(0)
-	for _, b := range p {
-		register ^= uint32(b)
-		for range 8 {
-			register = shift(register)
-		}
-	}
-	return ^register
 }
 
 // byTable lays the table ahead of the first sum that needs it, whoever comes first.

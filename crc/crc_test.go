@@ -112,6 +112,9 @@ func TestKnownSums(t *testing.T) {
 		if got := crc.More(0, c.p); got != c.want {
 			t.Errorf("More(0, %x) is %x, not %x", c.p, got, c.want)
 		}
+		if got := crc.Sum(c.p); got != c.want {
+			t.Errorf("Sum(%x) is %x, not %x", c.p, got, c.want)
+		}
 	}
 }
 
@@ -131,7 +134,7 @@ func TestEachByte(t *testing.T) {
 func TestEachLength(t *testing.T) {
 	all := mixed(600)
 	for n := range all {
-		if p := all[:n]; crc.Of(p) != bitByBit(0, p) || crc.More(0, p) != bitByBit(0, p) {
+		if p := all[:n]; crc.Of(p) != bitByBit(0, p) || crc.More(0, p) != bitByBit(0, p) || crc.Sum(p) != bitByBit(0, p) {
 			t.Fatal(n)
 		}
 	}
@@ -193,6 +196,10 @@ func TestCallsCountsOfAndMore(t *testing.T) {
 	if grown() != 4 {
 		t.Error("of no byte", grown())
 	}
+	crc.Sum([]byte(letters))
+	if grown() != 4 {
+		t.Error("Sum is counted", grown())
+	}
 }
 
 func TestWhatIsHandedInStays(t *testing.T) {
@@ -200,6 +207,7 @@ func TestWhatIsHandedInStays(t *testing.T) {
 	was := bytes.Clone(p)
 	c := crc.Of(p)
 	more := crc.More(c, p)
+	crc.Sum(p)
 	if !bytes.Equal(p, was) {
 		t.Error("written into")
 	}

@@ -22,10 +22,13 @@ func TestTableIsLaidJustOnce(t *testing.T) {
 	})
 }
 
-func TestOfHangsOnItsBytesAlone(t *testing.T) {
+func TestOfAndSumGoByTheRule(t *testing.T) {
 	withoutTable(func() {
 		if c := Of([]byte("123456789")); c != 0xe3069283 {
-			t.Errorf("%x", c)
+			t.Errorf("Of: %x", c)
+		}
+		if c := Sum([]byte("123456789")); c != 0xe3069283 {
+			t.Errorf("Sum: %x", c)
 		}
 	})
 }
