@@ -101,7 +101,32 @@ func objects() map[string]func() any {
 		"wal.Log, records":            func() any { return opened(logged(20)) },
 		"wal.Log, no room":            func() any { return opened(logged(api.MaxBlocks)) },
 		"wal.Log, its device crashed": func() any { return crashed() },
+
+		"txn.Manager, none has begun":    func() any { return txn.New() },
+		"txn.Manager, some are open":     func() any { return begun(3) },
+		"txn.Manager, no room":           func() any { return begun(api.MaxOpen) },
+		"txn.Manager, loaded":            func() any { return loaded(41) },
+		"txn.Manager, the last number":   func() any { return loaded(api.MaxTxid - 1) },
+		"txn.Manager, no number is left": func() any { return loaded(api.MaxTxid) },
 	}
+}
+
+// begun is a manager of whom so many are open, behind one that was committed, and one that was aborted.
+func begun(open int) *txn.Manager {
+	m := txn.New()
+	for range 2 + open {
+		m.Begin()
+		m.Commit(1)
+		m.Abort(2)
+	}
+	return m
+}
+
+// loaded is a manager that goes on at next; the first and the last one ahead of it were committed.
+func loaded(next int64) *txn.Manager {
+	m := begun(3)
+	m.Load(next, []int64{1, next - 1})
+	return m
 }
 
 // opened is the log on a device.
