@@ -108,6 +108,17 @@ func objects() map[string]func() any {
 		"txn.Manager, loaded":            func() any { return loaded(41) },
 		"txn.Manager, the last number":   func() any { return loaded(api.MaxTxid - 1) },
 		"txn.Manager, no number is left": func() any { return loaded(api.MaxTxid) },
+
+		"heap.Heap, its manager is nil":  func() any { return heap.New(nil) },
+		"heap.Heap, none has begun":      func() any { return heap.New(txn.New()) },
+		"heap.Heap, no version":          func() any { return heap.New(begun(3)) },
+		"heap.Heap, versions":            func() any { h, _ := versions(); return h },
+		"heap.Heap, none is open":        func() any { return reloaded(41) },
+		"heap.Heap, no number is left":   func() any { return reloaded(api.MaxTxid) },
+		"heap.Heap, nobody ever was":     func() any { return reloaded(1) },
+		"heap.Heap, 1 is open again":     func() any { return again() },
+		"heap.Heap, several of each key": func() any { return several() },
+		"heap.Heap, vacuumed":            func() any { return vacuumed() },
 	}
 }
 
@@ -127,6 +138,89 @@ func loaded(next int64) *txn.Manager {
 	m := begun(3)
 	m.Load(next, []int64{1, next - 1})
 	return m
+}
+
+// versions is a heap with versions of the keys that odd has, and of others, by those who
+// are open, were committed, and were aborted; and its manager.
+func versions() (*heap.Heap, *txn.Manager) {
+	m := txn.New()
+	h := heap.New(m)
+	for i := range 9 {
+		x, _ := m.Begin()
+		v := heap.View{Snap: m.Now(), Own: x}
+		for _, key := range []int64{0, 1, -1, 41, math.MaxInt64, math.MinInt64, int64(i)} {
+			r := api.Row{Key: key, Text: strings.Repeat("t", i)}
+			if h.Insert(v, r) == api.ErrDup && i%2 == 0 {
+				h.Update(v, r)
+			} else if i == 5 {
+				h.Delete(v, key)
+			}
+		}
+		switch i % 3 {
+		case 0:
+			m.Commit(x)
+		case 1:
+			m.Abort(x)
+		}
+	}
+	return h, m
+}
+
+// reloaded is a heap with versions whose manager was loaded since: it doesn't know all of their transactions.
+func reloaded(next int64) *heap.Heap {
+	h, m := versions()
+	m.Load(next, nil)
+	if next > 3 {
+		m.Load(next, []int64{1, 3, next - 1})
+	}
+	return h
+}
+
+// again is a heap with versions whose manager was loaded since: 1, who bore the first ones, is open again.
+func again() *heap.Heap {
+	h, m := versions()
+	m.Load(1, nil)
+	m.Begin()
+	return h
+}
+
+// several is a heap of whose keys one view may see several versions; 41 is open.
+func several() *heap.Heap {
+	m := loaded(41)
+	h := heap.New(m)
+	m.Begin()
+	for range 3 {
+		for _, key := range []int64{0, 1, -1, 41, math.MaxInt64, math.MinInt64} {
+			h.Redo(1, []heap.Op{{Row: api.Row{Key: key}}, {Row: api.Row{Key: key, Text: "t"}}})
+			h.Redo(40, []heap.Op{{Gone: true, Row: api.Row{Key: key}}})
+			h.Insert(heap.View{Own: 41}, api.Row{Key: key, Text: "u"})
+		}
+	}
+	return h
+}
+
+// vacuumed is a heap all of whose versions but a few were let go.
+func vacuumed() *heap.Heap {
+	h, m := versions()
+	h.Vacuum(m.Now())
+	return h
+}
+
+// manager is one of the kinds of managers: none, one of whom none has begun, some, as many as may be, and loaded ones.
+func manager(kind int) *txn.Manager {
+	switch kind {
+	case 1:
+		return txn.New()
+	case 2:
+		return begun(3)
+	case 3:
+		return begun(api.MaxOpen)
+	case 4:
+		return loaded(41)
+	case 5:
+		return loaded(api.MaxTxid)
+	}
+	return nil
 }
 
 // opened is the log on a device.
@@ -196,8 +290,11 @@ const kinds = 6
 
 // odd is one of the values of a type that are on some edge.
 func odd(t reflect.Type, kind int) reflect.Value {
-	if t == reflect.TypeFor[*block.Device]() {
+	switch t {
+	case reflect.TypeFor[*block.Device]():
 		return reflect.ValueOf(device(kind))
+	case reflect.TypeFor[*txn.Manager]():
+		return reflect.ValueOf(manager(kind))
 	}
 	v := reflect.New(t).Elem()
 	switch t.Kind() {
@@ -229,7 +326,7 @@ func lists(t reflect.Type, i int) [][]reflect.Value {
 	var all [][]reflect.Value
 	behind := lists(t, i+1)
 	for kind := range kinds {
-		if kind > 0 && t.In(i).Kind() == reflect.Pointer && t.In(i) != reflect.TypeFor[*block.Device]() { // there is but nil
+		if kind > 0 && !hasOdd(t.In(i)) { // there is but nil
 			break
 		}
 		for _, l := range behind {
@@ -237,6 +334,11 @@ func lists(t reflect.Type, i int) [][]reflect.Value {
 		}
 	}
 	return all
+}
+
+// hasOdd tells whether odd has other values of a type than its zero value.
+func hasOdd(t reflect.Type) bool {
+	return t.Kind() != reflect.Pointer || t == reflect.TypeFor[*block.Device]() || t == reflect.TypeFor[*txn.Manager]()
 }
 
 // call tells a fault if the call panics.
