@@ -119,6 +119,15 @@ func objects() map[string]func() any {
 		"heap.Heap, 1 is open again":     func() any { return again() },
 		"heap.Heap, several of each key": func() any { return several() },
 		"heap.Heap, vacuumed":            func() any { return vacuumed() },
+
+		"rel.Rel, its manager is nil":  func() any { return rel.New(nil, 2) },
+		"rel.Rel, below 1 table":       func() any { return rel.New(begun(3), math.MinInt) },
+		"rel.Rel, far too many tables": func() any { return rel.New(begun(api.MaxOpen), math.MaxInt) },
+		"rel.Rel, none has begun":      func() any { return rel.New(txn.New(), 2) },
+		"rel.Rel, rows":                func() any { r, _ := store(); return r },
+		"rel.Rel, none is open":        func() any { r, m := store(); m.Load(41, []int64{1, 40}); return r },
+		"rel.Rel, nobody ever was":     func() any { r, m := store(); m.Load(1, nil); return r },
+		"rel.Rel, vacuumed":            func() any { r, m := store(); r.Vacuum(m.Now()); return r },
 	}
 }
 
@@ -204,6 +213,35 @@ func vacuumed() *heap.Heap {
 	h, m := versions()
 	h.Vacuum(m.Now())
 	return h
+}
+
+// store is tables with rows of the keys that odd has, by those who are open, were committed, and were aborted;
+// and their manager.
+func store() (*rel.Rel, *txn.Manager) {
+	m := txn.New()
+	r := rel.New(m, api.MaxTables)
+	for i := range 9 {
+		x, _ := m.Begin()
+		v := heap.View{Snap: m.Now(), Own: x}
+		for _, key := range []int64{0, 1, -1, 41, math.MaxInt64, math.MinInt64} {
+			for table := range r.Tables() {
+				r.Run(v, rel.Stmt{Kind: byte(1 + (i+table)%3), Table: table, Row: api.Row{Key: key}})
+			}
+		}
+		switch i % 3 {
+		case 0:
+			m.Commit(x)
+		case 1:
+			m.Abort(x)
+		}
+	}
+	return r, m
+}
+
+// statement is one of each of the Kinds, in a table that there is; those that can't be are tried in rel.
+func statement(kind int) rel.Stmt {
+	r := odd(reflect.TypeFor[api.Row](), kind).Interface().(api.Row)
+	return rel.Stmt{Kind: byte(1 + kind), Table: kind % 2, Row: r}
 }
 
 // manager is one of the kinds of managers: none, one of whom none has begun, some, as many as may be, and loaded ones.
@@ -295,6 +333,8 @@ func odd(t reflect.Type, kind int) reflect.Value {
 		return reflect.ValueOf(device(kind))
 	case reflect.TypeFor[*txn.Manager]():
 		return reflect.ValueOf(manager(kind))
+	case reflect.TypeFor[rel.Stmt]():
+		return reflect.ValueOf(statement(kind))
 	}
 	v := reflect.New(t).Elem()
 	switch t.Kind() {
