@@ -244,6 +244,25 @@ func statement(kind int) rel.Stmt {
 	return rel.Stmt{Kind: byte(1 + kind), Table: kind % 2, Row: r}
 }
 
+// change is an event: none, one of each of the Kinds, on the edges of what may be, and one beyond all of them.
+func change(kind int) api.Event {
+	r := odd(reflect.TypeFor[api.Row](), kind).Interface().(api.Row)
+	switch kind {
+	case 1:
+		return api.Event{ID: 1, Tx: 1, Kind: api.Insert, Row: r}
+	case 2:
+		return api.Event{ID: 2, Tx: 1, Owner: "a", Tries: 1, Table: 1, Kind: api.Update, Row: r}
+	case 3:
+		return api.Event{ID: 41, Tx: 41, Owner: api.Replica, Kind: api.Delete, Row: api.Row{Key: r.Key}}
+	case 4:
+		most := strings.Repeat("x", api.MaxText)
+		return api.Event{ID: math.MaxInt64, Tx: math.MaxInt64, Owner: most, Tries: math.MaxInt32, Table: api.MaxTables - 1, Kind: api.Truncate, Row: api.Row{Key: r.Key, Text: most}}
+	case 5:
+		return api.Event{ID: math.MinInt64, Tx: -1, Owner: strings.Repeat("y", 41), Tries: math.MinInt, Table: math.MaxInt, Kind: math.MaxUint8, Row: r}
+	}
+	return api.Event{}
+}
+
 // manager is one of the kinds of managers: none, one of whom none has begun, some, as many as may be, and loaded ones.
 func manager(kind int) *txn.Manager {
 	switch kind {
@@ -335,6 +354,8 @@ func odd(t reflect.Type, kind int) reflect.Value {
 		return reflect.ValueOf(manager(kind))
 	case reflect.TypeFor[rel.Stmt]():
 		return reflect.ValueOf(statement(kind))
+	case reflect.TypeFor[api.Event]():
+		return reflect.ValueOf(change(kind))
 	}
 	v := reflect.New(t).Elem()
 	switch t.Kind() {
