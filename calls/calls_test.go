@@ -128,6 +128,14 @@ func objects() map[string]func() any {
 		"rel.Rel, none is open":        func() any { r, m := store(); m.Load(41, []int64{1, 40}); return r },
 		"rel.Rel, nobody ever was":     func() any { r, m := store(); m.Load(1, nil); return r },
 		"rel.Rel, vacuumed":            func() any { r, m := store(); r.Vacuum(m.Now()); return r },
+
+		"spool.Spools": func() any { return spool.New() },
+		"spool.Spools, events in the current one": func() any { return spooled(0, 0) },
+		"spool.Spools, events in the next one":    func() any { return spooled(0, 1) },
+		"spool.Spools, events in some":            func() any { return spooled(1, 0, 1) },
+		"spool.Spools, events in all":             func() any { return spooled(0, 0, 1, 2) },
+		"spool.Spools, the last one is current":   func() any { return spooled(2, 2, 1, 0) },
+		"spool.Spools, all is forgotten":          func() any { return forgotten() },
 	}
 }
 
@@ -236,6 +244,29 @@ func store() (*rel.Rel, *txn.Manager) {
 		}
 	}
 	return r, m
+}
+
+// spooled is spools with events of all kinds in those tables, and that current one.
+func spooled(cur int, tables ...int) *spool.Spools {
+	s := spool.New()
+	for range cur {
+		s.Rotate(false)
+	}
+	for _, i := range tables {
+		for kind := range 2 * kinds {
+			s.AddTo(i, change(kind%kinds))
+		}
+	}
+	return s
+}
+
+// forgotten is spools all of whose events are gone again.
+func forgotten() *spool.Spools {
+	s := spooled(1, 0, 1, 2)
+	for kind := range kinds {
+		s.Forget(change(kind).Tx)
+	}
+	return s
 }
 
 // statement is one of each of the Kinds, in a table that there is; those that can't be are tried in rel.
