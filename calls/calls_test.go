@@ -136,6 +136,12 @@ func objects() map[string]func() any {
 		"spool.Spools, events in all":             func() any { return spooled(0, 0, 1, 2) },
 		"spool.Spools, the last one is current":   func() any { return spooled(2, 2, 1, 0) },
 		"spool.Spools, all is forgotten":          func() any { return forgotten() },
+
+		"tick.Ticks":                func() any { return tick.New() },
+		"tick.Ticks, some are kept": func() any { return ticked(3) },
+		"tick.Ticks, no room":       func() any { return ticked(api.MaxTicks) },
+		"tick.Ticks, some are gone": func() any { return trimmed(20) },
+		"tick.Ticks, just the last": func() any { return trimmed(41) },
 	}
 }
 
@@ -269,6 +275,40 @@ func forgotten() *spool.Spools {
 	return s
 }
 
+// ticked is ticks of which so many are kept, the last one with open ones.
+func ticked(kept int) *tick.Ticks {
+	t := tick.New()
+	for n := range kept {
+		t.Add(api.Snapshot{Max: int64(n + 3), Open: []int64{1, int64(n + 2)}}, int64(n-1))
+	}
+	return t
+}
+
+// trimmed is ticks of which those below a number were let go.
+func trimmed(below int64) *tick.Ticks {
+	t := ticked(41)
+	t.Trim(below)
+	return t
+}
+
+// snapshot is the zero one, one of each of Right ones (that sees nobody, few, very many), and such as aren't.
+func snapshot(kind int) api.Snapshot {
+	open := odd(reflect.TypeFor[[]int64](), kind).Interface().([]int64)
+	switch kind {
+	case 1:
+		return api.Snapshot{Max: 1}
+	case 2:
+		return api.Snapshot{Max: math.MaxInt64, Open: []int64{1, 41, 42, math.MaxInt64 - 1}}
+	case 3:
+		return api.Snapshot{Max: 41, Open: open}
+	case 4:
+		return api.Snapshot{Max: 42, Open: []int64{1, 2, 41}}
+	case 5:
+		return api.Snapshot{Max: math.MinInt64, Open: open}
+	}
+	return api.Snapshot{}
+}
+
 // statement is one of each of the Kinds, in a table that there is; those that can't be are tried in rel.
 func statement(kind int) rel.Stmt {
 	r := odd(reflect.TypeFor[api.Row](), kind).Interface().(api.Row)
@@ -383,6 +423,8 @@ func odd(t reflect.Type, kind int) reflect.Value {
 		return reflect.ValueOf(device(kind))
 	case reflect.TypeFor[*txn.Manager]():
 		return reflect.ValueOf(manager(kind))
+	case reflect.TypeFor[api.Snapshot]():
+		return reflect.ValueOf(snapshot(kind))
 	case reflect.TypeFor[rel.Stmt]():
 		return reflect.ValueOf(statement(kind))
 	case reflect.TypeFor[api.Event]():
