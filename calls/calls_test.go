@@ -142,6 +142,15 @@ func objects() map[string]func() any {
 		"tick.Ticks, no room":       func() any { return ticked(api.MaxTicks) },
 		"tick.Ticks, some are gone": func() any { return trimmed(20) },
 		"tick.Ticks, just the last": func() any { return trimmed(41) },
+
+		"cursor.Cursors":                     func() any { return cursor.New() },
+		"cursor.Cursors, one, none open":     func() any { return registered(1) },
+		"cursor.Cursors, some, none open":    func() any { return registered(3) },
+		"cursor.Cursors, some, batches open": func() any { return reading(3) },
+		"cursor.Cursors, no room, none open": func() any { return registered(api.MaxConsumers) },
+		"cursor.Cursors, no room, all open":  func() any { return reading(api.MaxConsumers) },
+		"cursor.Cursors, all finished":       func() any { return finished(api.MaxConsumers) },
+		"cursor.Cursors, all are gone":       func() any { return unregistered() },
 	}
 }
 
@@ -289,6 +298,47 @@ func trimmed(below int64) *tick.Ticks {
 	t := ticked(41)
 	t.Trim(below)
 	return t
+}
+
+// registered are so many consumers, by names that odd has, of whom none has a batch open.
+func registered(consumers int) *cursor.Cursors {
+	c := cursor.New()
+	for n := range consumers {
+		c.Register(consumer(n), int64(n+1))
+	}
+	return c
+}
+
+// reading are so many consumers, each with a batch open: the first one's up to the greatest number.
+func reading(consumers int) *cursor.Cursors {
+	c := registered(consumers)
+	for n := range consumers {
+		c.Open(consumer(n), math.MaxInt64-int64(n))
+	}
+	return c
+}
+
+// finished are so many consumers who have finished all up to numbers that are far away.
+func finished(consumers int) *cursor.Cursors {
+	c := reading(consumers)
+	for n := range consumers {
+		c.Finish(consumer(n))
+	}
+	return c
+}
+
+// unregistered are consumers who are gone again, with their batches open.
+func unregistered() *cursor.Cursors {
+	c := reading(api.MaxConsumers)
+	for n := range api.MaxConsumers {
+		c.Unregister(consumer(n))
+	}
+	return c
+}
+
+// consumer is one of odd's texts that may be a name.
+func consumer(n int) string {
+	return odd(reflect.TypeFor[string](), [api.MaxConsumers]int{1, 2, 3, 5}[n]).String()
 }
 
 // snapshot is the zero one, one of each of Right ones (that sees nobody, few, very many), and such as aren't.
