@@ -151,6 +151,14 @@ func objects() map[string]func() any {
 		"cursor.Cursors, no room, all open":  func() any { return reading(api.MaxConsumers) },
 		"cursor.Cursors, all finished":       func() any { return finished(api.MaxConsumers) },
 		"cursor.Cursors, all are gone":       func() any { return unregistered() },
+
+		"retry.Retries":                  func() any { return retry.New() },
+		"retry.Retries, one waits":       func() any { return waiting(1) },
+		"retry.Retries, some wait":       func() any { return waiting(kinds) },
+		"retry.Retries, no room":         func() any { return waiting(api.MaxRetries) },
+		"retry.Retries, some were taken": func() any { r := waiting(api.MaxRetries); r.Take(0); return r },
+		"retry.Retries, all were taken":  func() any { r := waiting(api.MaxRetries); r.Take(math.MaxInt64); return r },
+		"retry.Retries, all are dropped": func() any { return dropped() },
 	}
 }
 
@@ -339,6 +347,28 @@ func unregistered() *cursor.Cursors {
 // consumer is one of odd's texts that may be a name.
 func consumer(n int) string {
 	return odd(reflect.TypeFor[string](), [api.MaxConsumers]int{1, 2, 3, 5}[n]).String()
+}
+
+// waiting are so many events of all kinds that come again, for owners that odd has, at times on all edges.
+func waiting(items int) *retry.Retries {
+	r := retry.New()
+	for n := range kinds * kinds {
+		if len(r.All()) == items {
+			break
+		}
+		at := odd(reflect.TypeFor[int64](), n/2%kinds).Int()
+		r.Add(change(n%kinds), odd(reflect.TypeFor[string](), n/kinds).String(), at)
+	}
+	return r
+}
+
+// dropped are retries all of whose items are gone again.
+func dropped() *retry.Retries {
+	r := waiting(api.MaxRetries)
+	for _, x := range r.All() {
+		r.Drop(x.Event.Owner)
+	}
+	return r
 }
 
 // snapshot is the zero one, one of each of Right ones (that sees nobody, few, very many), and such as aren't.
