@@ -159,6 +159,18 @@ func objects() map[string]func() any {
 		"retry.Retries, some were taken": func() any { r := waiting(api.MaxRetries); r.Take(0); return r },
 		"retry.Retries, all were taken":  func() any { r := waiting(api.MaxRetries); r.Take(math.MaxInt64); return r },
 		"retry.Retries, all are dropped": func() any { return dropped() },
+
+		"queue.Queue":                                     func() any { return queue.New(txn.New()) },
+		"queue.Queue, its manager is nil":                 func() any { return queue.New(nil) },
+		"queue.Queue, events alone":                       func() any { return queued(0, 0, 2) },
+		"queue.Queue, ticks alone":                        func() any { return queued(3, 0, 0) },
+		"queue.Queue, some of all":                        func() any { return queued(3, 2, 2) },
+		"queue.Queue, as many as may be":                  func() any { return queued(api.MaxTicks, api.MaxConsumers, api.MaxRetries) },
+		"queue.Queue, the last ID":                        func() any { q := queued(3, 2, 2); q.SetNextID(math.MaxInt64); return q },
+		"queue.Queue, all have finished":                  func() any { return drained() },
+		"queue.Queue, its ticks are gone":                 func() any { q := queued(5, 2, 2); q.Ticks().Trim(math.MaxInt64); return q },
+		"queue.Queue, consumers of ticks that never were": func() any { return unticked() },
+		"queue.Queue, its manager was loaded since":       func() any { return forgetful() },
 	}
 }
 
