@@ -521,6 +521,8 @@ func odd(t reflect.Type, kind int) reflect.Value {
 		return reflect.ValueOf(statement(kind))
 	case reflect.TypeFor[api.Event]():
 		return reflect.ValueOf(change(kind))
+	case reflect.TypeFor[entry.Entry]():
+		return reflect.ValueOf(record(kind))
 	}
 	v := reflect.New(t).Elem()
 	switch t.Kind() {
