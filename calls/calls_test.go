@@ -171,6 +171,17 @@ func objects() map[string]func() any {
 		"queue.Queue, its ticks are gone":                 func() any { q := queued(5, 2, 2); q.Ticks().Trim(math.MaxInt64); return q },
 		"queue.Queue, consumers of ticks that never were": func() any { return unticked() },
 		"queue.Queue, its manager was loaded since":       func() any { return forgetful() },
+
+		"source.Source":                      func() any { return sourced(300) },
+		"source.Source, no block":            func() any { return sourced(0) },
+		"source.Source, one block":           func() any { return sourced(1) },
+		"source.Source, some of all":         func() any { return worked(300) },
+		"source.Source, no room":             func() any { return worked(12) },
+		"source.Source, as many as may be":   func() any { return crowded() },
+		"source.Source, staged":              func() any { return staged() },
+		"source.Source, no number is left":   func() any { return lastSource() },
+		"source.Source, misled from outside": func() any { return misled() },
+		"source.Source, opened again":        func() any { return reopened() },
 	}
 }
 
